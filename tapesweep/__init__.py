@@ -1,0 +1,1 @@
+"""Line code run on exact fractions, its tape, and derivatives summed backwards along it."""

@@ -1,0 +1,50 @@
+"""The sweep: weights on lines, summed backwards along the tape."""
+
+from tapesweep.fraction import ONE
+from tapesweep.fraction import ZERO
+from tapesweep.fraction import lowest
+from tapesweep.fraction import plus
+from tapesweep.fraction import times
+from tapesweep.linecode import INPUT
+from tapesweep.linecode import lines_used
+
+
+def read_weights(numbers, count):
+    """The weight of each of so many lines, told by a row of threes, or None where it isn't one."""
+    if len(numbers) % 3 != 0:
+        return None
+    weights = [ZERO] * count
+    for at in range(0, len(numbers), 3):
+        number = numbers[at]
+        if number < 0 or number >= count or numbers[at + 2] < 1:
+            return None
+        told = lowest(numbers[at + 1], numbers[at + 2])
+        weights[number] = plus(weights[number], told)
+    return weights
+
+
+def weight_on_one(number, count):
+    """The weight 1 on one of so many lines, and 0 on the others."""
+    weights = [ZERO] * count
+    weights[number] = ONE
+    return weights
+
+
+def sweep_sums(lines, tape, weights):
+    """The sums of all lines when the sweep is done."""
+    sums = list(weights)
+    for number in range(len(lines) - 1, -1, -1):
+        own = sums[number]
+        if own != ZERO:
+            for used, derivative in zip(lines_used(lines[number]), tape[number]):
+                sums[used] = plus(sums[used], times(own, derivative))
+    return sums
+
+
+def by_inputs(lines, inputs, sums):
+    """For each input the sums of all lines that are that input, added."""
+    derivatives = [ZERO] * inputs
+    for line, line_sum in zip(lines, sums):
+        if line[0] == INPUT:
+            derivatives[line[1]] = plus(derivatives[line[1]], line_sum)
+    return derivatives
