@@ -1,1 +1,1 @@
-"""Line code run on exact fractions, its tape, and derivatives summed backwards along it."""
+"""Line code run on exact fractions, derivatives summed backwards along its tape, and lines taken out."""

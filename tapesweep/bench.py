@@ -1,7 +1,11 @@
 """The object that the calls are made on: code over some inputs, and a point or none."""
 
+from tapesweep.fraction import ZERO
+from tapesweep.fraction import plus
 from tapesweep.fraction import read_fractions
+from tapesweep.fraction import times
 from tapesweep.fraction import weight
+from tapesweep.linecode import is_operation
 from tapesweep.linecode import read_lines
 from tapesweep.linecode import uses_are_sound
 from tapesweep.refusals import BAD_FORM
@@ -16,8 +20,14 @@ from tapesweep.run import make_tape
 from tapesweep.run import run
 from tapesweep.sweep import by_inputs
 from tapesweep.sweep import read_weights
+from tapesweep.sweep import sweep_cost
 from tapesweep.sweep import sweep_sums
 from tapesweep.sweep import weight_on_one
+from tapesweep.ways import Ways
+from tapesweep.ways import lines_to_take_out
+from tapesweep.ways import read_order
+from tapesweep.ways import read_outs
+from tapesweep.ways import take_out_greedily
 
 MOST_INPUTS = 12
 MOST_LINES = 80
@@ -56,10 +66,22 @@ class Bench:
             return FAULTY_RUN
         return None
 
+    def read_refusal(self, read):
+        """The refusal where a list could not be read (read is None) or there is no whole run, else None."""
+        if read is None:
+            return BAD_FORM
+        return self.run_refusal()
+
+    def sums_down_to(self, number, weights):
+        return sweep_sums(self.lines, self.tape, weights, number)
+
     def input_derivatives(self, weights):
         """The derivatives by the inputs of the weighted sum of lines."""
-        sums = sweep_sums(self.lines, self.tape, weights)
-        return by_inputs(self.lines, self.inputs, sums)
+        return by_inputs(self.lines, self.inputs, self.sums_down_to(0, weights))
+
+    def line_derivatives(self, number):
+        """The derivatives of a line by the inputs."""
+        return self.input_derivatives(weight_on_one(number, len(self.lines)))
 
     def answer_code(self, inputs, numbers):
         if inputs < 0 or inputs > MOST_INPUTS:
@@ -120,14 +142,82 @@ class Bench:
         refusal = self.run_refusal()
         if refusal is not None:
             return [refusal]
-        weights = weight_on_one(number, len(self.lines))
-        return tell([self.inputs], self.input_derivatives(weights))
+        return tell([self.inputs], self.line_derivatives(number))
 
     def answer_pull(self, numbers):
         weights = read_weights(numbers, len(self.lines))
-        if weights is None:
+        refusal = self.read_refusal(weights)
+        if refusal is not None:
+            return [refusal]
+        return tell([self.inputs], self.input_derivatives(weights))
+
+    def answer_sums(self, numbers):
+        weights = read_weights(numbers, len(self.lines))
+        refusal = self.read_refusal(weights)
+        if refusal is not None:
+            return [refusal]
+        return tell([len(self.lines)], self.sums_down_to(0, weights))
+
+    def answer_sweep(self, number, numbers):
+        if not self.is_line(number):
+            return [BAD_NUMBER]
+        weights = read_weights(numbers, len(self.lines))
+        refusal = self.read_refusal(weights)
+        if refusal is not None:
+            return [refusal]
+        return tell([len(self.lines)], self.sums_down_to(number, weights))
+
+    def answer_cost(self, numbers):
+        weights = read_weights(numbers, len(self.lines))
+        refusal = self.read_refusal(weights)
+        if refusal is not None:
+            return [refusal]
+        operations = [line for line in self.lines if is_operation(line)]
+        return [len(operations), sweep_cost(self.lines, self.sums_down_to(0, weights))]
+
+    def answer_table(self, numbers):
+        outs = read_outs(numbers, len(self.lines))
+        refusal = self.read_refusal(outs)
+        if refusal is not None:
+            return [refusal]
+        rows = []
+        for out in outs:
+            rows.extend(self.line_derivatives(out))
+        return tell([len(rows)], rows)
+
+    def answer_along(self, number, numbers):
+        if not self.is_line(number):
+            return [BAD_NUMBER]
+        direction = read_fractions(numbers, self.inputs)
+        refusal = self.read_refusal(direction)
+        if refusal is not None:
+            return [refusal]
+        slope = ZERO
+        for derivative, step in zip(self.line_derivatives(number), direction):
+            slope = plus(slope, times(derivative, step))
+        return tell([1], [slope])
+
+    def answer_eliminate(self, out_numbers, order_numbers):
+        outs = read_outs(out_numbers, len(self.lines))
+        order = read_order(order_numbers, self.lines)
+        if outs is None or order is None:
             return [BAD_FORM]
         refusal = self.run_refusal()
         if refusal is not None:
             return [refusal]
-        return tell([self.inputs], self.input_derivatives(weights))
+        ways = Ways(self.lines, self.tape, outs)
+        for number in order:
+            ways.take_out(number)
+        left = []
+        for place in range(len(outs)):
+            left.extend(by_inputs(self.lines, self.inputs, ways.worths_to_end(place)))
+        return tell([ways.products, ways.sums], left)
+
+    def answer_greedy(self, numbers):
+        outs = read_outs(numbers, len(self.lines))
+        refusal = self.read_refusal(outs)
+        if refusal is not None:
+            return [refusal]
+        ways = Ways(self.lines, self.tape, outs)
+        order = take_out_greedily(ways, lines_to_take_out(self.lines))
+        return [ways.products, ways.sums] + order

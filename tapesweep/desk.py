@@ -9,6 +9,13 @@ VALUES = 3
 TAPE = 4
 GRADIENT = 5
 PULL = 6
+SUMS = 7
+SWEEP = 8
+COST = 9
+TABLE = 10
+ALONG = 11
+ELIMINATE = 12
+GREEDY = 13
 
 
 class Reader:
@@ -52,6 +59,23 @@ def answer_call(bench, reader):
         return bench.answer_gradient(reader.take_number())
     if call == PULL:
         return bench.answer_pull(reader.take_row())
+    if call == SUMS:
+        return bench.answer_sums(reader.take_row())
+    if call == SWEEP:
+        number = reader.take_number()
+        return bench.answer_sweep(number, reader.take_row())
+    if call == COST:
+        return bench.answer_cost(reader.take_row())
+    if call == TABLE:
+        return bench.answer_table(reader.take_row())
+    if call == ALONG:
+        number = reader.take_number()
+        return bench.answer_along(number, reader.take_row())
+    if call == ELIMINATE:
+        outs = reader.take_row()
+        return bench.answer_eliminate(outs, reader.take_row())
+    if call == GREEDY:
+        return bench.answer_greedy(reader.take_row())
     raise ValueError("no such call")
 
 

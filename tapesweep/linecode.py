@@ -36,9 +36,13 @@ def read_lines(numbers):
     return lines
 
 
+def is_operation(line):
+    return line[0] != INPUT and line[0] != CONSTANT
+
+
 def lines_used(line):
     """The numbers of the lines that a line uses, in the order in which they stand in it."""
-    if line[0] == INPUT or line[0] == CONSTANT:
+    if not is_operation(line):
         return []
     return list(line[1:])
 

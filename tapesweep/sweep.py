@@ -8,6 +8,9 @@ from tapesweep.fraction import times
 from tapesweep.linecode import INPUT
 from tapesweep.linecode import lines_used
 
+# What it costs to pass on a line, by its kind.
+PRICES = (0, 0, 2, 2, 4, 4, 1)
+
 
 def read_weights(numbers, count):
     """The weight of each of so many lines, told by a row of threes, or None where it isn't one."""
@@ -30,15 +33,26 @@ def weight_on_one(number, count):
     return weights
 
 
-def sweep_sums(lines, tape, weights):
-    """The sums of all lines when the sweep is done."""
+def sweep_sums(lines, tape, weights, down_to):
+    """The sums of all lines when the sweep has passed on the lines from the last down to one."""
     sums = list(weights)
-    for number in range(len(lines) - 1, -1, -1):
+    for number in range(len(lines) - 1, down_to - 1, -1):
         own = sums[number]
         if own != ZERO:
             for used, derivative in zip(lines_used(lines[number]), tape[number]):
                 sums[used] = plus(sums[used], times(own, derivative))
     return sums
+
+
+def sweep_cost(lines, sums):
+    """What the sweep costs that has left these sums."""
+    # A line uses earlier lines alone: once it's passed on its sum stays, so the sums that are
+    # left tell which lines had one then.
+    cost = 0
+    for line, line_sum in zip(lines, sums):
+        if line_sum != ZERO:
+            cost = cost + PRICES[line[0]]
+    return cost
 
 
 def by_inputs(lines, inputs, sums):

@@ -4,89 +4,10 @@ import random
 import unittest
 from fractions import Fraction
 
-from tests.helper import (CONSTANT, DIFFERENCE, INPUT, NEGATIVE, PRODUCT, QUOTIENT, SUM,
-                          ask, code, flat, gradient, point, pull, tape, value, values)
+from tests.helper import (ask, bits, code, flat, forwards, gradient, pairs, point, pull, some_code, some_straight_code,
+                          tape, value, values)
 
 CODES = 300
-
-
-def bits(fraction):
-    return fraction.numerator.bit_length() + fraction.denominator.bit_length()
-
-
-def pairs(fractions):
-    return flat([(fraction.numerator, fraction.denominator) for fraction in fractions])
-
-
-def work_out(line, results, at):
-    """A line's value and its own derivatives."""
-    kind = line[0]
-    if kind == INPUT:
-        return at[line[1]], []
-    if kind == CONSTANT:
-        return Fraction(line[1], line[2]), []
-    a = results[line[1]]
-    if kind == NEGATIVE:
-        return -a, [Fraction(-1)]
-    b = results[line[2]]
-    if kind == SUM:
-        return a + b, [Fraction(1), Fraction(1)]
-    if kind == DIFFERENCE:
-        return a - b, [Fraction(1), Fraction(-1)]
-    if kind == PRODUCT:
-        return a * b, [b, a]
-    return a / b, [1 / b, -a / (b * b)]
-
-
-def forwards(n, lines, at):
-    """The fault's answer, or None; values; own derivatives; and each line's derivatives by the inputs."""
-    results, owns, slopes = [], [], []
-    for number, line in enumerate(lines):
-        try:
-            result, own = work_out(line, results, at)
-        except ZeroDivisionError:
-            return [1, number, 1], results, owns, slopes
-        if bits(result) > 200:
-            return [1, number, 2], results, owns, slopes
-        slope = [Fraction(int(line[0] == INPUT and line[1] == k)) for k in range(n)]
-        if own:
-            for used, derivative in zip(line[1:], own):
-                slope = [s + derivative * t for s, t in zip(slope, slopes[used])]
-        results.append(result)
-        owns.append(own)
-        slopes.append(slope)
-    return None, results, owns, slopes
-
-
-def some_line(source, n, number, size):
-    if number == 0 or source.randrange(5) == 0:
-        if n > 0 and source.randrange(3) > 0:
-            return (INPUT, source.randrange(n))
-        return (CONSTANT, source.randint(-size, size), source.randint(1, size))
-    kind = source.choice((SUM, SUM, DIFFERENCE, PRODUCT, QUOTIENT, NEGATIVE))
-    used = [source.randrange(max(0, number - 6), number) for k in range(2)]
-    return (kind, used[0]) if kind == NEGATIVE else (kind, used[0], used[1])
-
-
-def some_code(source, lengths, size):
-    """A number of inputs, and lines on them, with constants up to a size."""
-    n = source.randint(0, 4)
-    lines = []
-    for number in range(source.randint(*lengths)):
-        lines.append(some_line(source, n, number, size))
-    return n, lines
-
-
-def some_straight_code(source):
-    """Two inputs, and lines that are 0 where these are: constants times lines, and sums of them."""
-    lines = [(INPUT, 0), (INPUT, 1)] + [(CONSTANT, source.randint(-10 ** 18, 10 ** 18), 7 ** 20 + k) for k in range(3)]
-    while len(lines) < 40:
-        used = [source.choice([0, 1] + list(range(5, len(lines)))[-4:]) for k in range(2)]
-        if source.randrange(2) == 0:
-            lines.append((source.choice((SUM, DIFFERENCE)), used[0], used[1]))
-        else:
-            lines.append((source.choice((PRODUCT, QUOTIENT)), used[0], source.randint(2, 4)))
-    return 2, lines
 
 
 class Forwards(unittest.TestCase):

@@ -2,15 +2,9 @@
 
 import unittest
 
-from tests.helper import (BOTTOM, CONSTANT, DIFFERENCE, INPUT, NEGATIVE, PRODUCT, QUOTIENT, SUM, TOP,
-                          ask, code, example_at_3_2, gradient, last, point, values, with_fault, without_point)
-
-
-def heavy_code(last_factor):
-    """Input 0 (which is to be 0) times 2^198 four times over, times a last factor."""
-    powers = [(INPUT, 0), (CONSTANT, 2 ** 59, 1), (PRODUCT, 1, 1), (PRODUCT, 2, 1), (CONSTANT, 2 ** 21, 1),
-              (PRODUCT, 3, 4), last_factor]
-    return powers + [(PRODUCT, 0, 5), (PRODUCT, 7, 5), (PRODUCT, 8, 5), (PRODUCT, 9, 5), (PRODUCT, 10, 6)]
+from tests.helper import (BOTTOM, CONSTANT, DIFFERENCE, INPUT, NEGATIVE, PRODUCT, QUOTIENT, SUM, TOP, ask, code,
+                          example_at_3_2, gradient, heavy_code, last, point, there_and_back, values, with_fault,
+                          without_point)
 
 
 class Gradient(unittest.TestCase):
@@ -95,12 +89,7 @@ class Weight(unittest.TestCase):
         self.assertEqual(told[2:], [[-6], [2, 0, 1, 1, 1]])
 
     def test_a_heavy_sum_that_is_not_told(self):
-        # Times 2^-198 ahead of five times 2^198: on the way down the sums reach 2^990.
-        powers = [(INPUT, 0), (CONSTANT, 2 ** 59, 1), (PRODUCT, 1, 1), (PRODUCT, 2, 1), (CONSTANT, 2 ** 21, 1),
-                  (PRODUCT, 3, 4)]
-        down = [(QUOTIENT, 0 if k == 6 else k - 1, 5) for k in range(6, 11)]
-        up = [(PRODUCT, k - 1, 5) for k in range(11, 16)]
-        told = ask(code(1, powers + down + up), point((0, 1)), gradient(15), gradient(10))
+        told = ask(code(1, there_and_back()), point((0, 1)), gradient(15), gradient(10))
         self.assertEqual(told[1:], [[0], [1, 1, 1], [-6]])
 
     def test_everything_is_as_it_was_after_the_refusal(self):
